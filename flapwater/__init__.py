@@ -1,0 +1,1 @@
+"""Flapwater: tanks with flaps, and what a fair wanderer pays."""

@@ -1,0 +1,129 @@
+"""What the tests make: rows from a fixed seed, and the document's own words worked out another way."""
+
+from fractions import Fraction
+from itertools import combinations
+from random import Random
+
+from flapwater.histories import History
+
+
+def told(value):
+    """A Fraction, a whole number or a list of these as the program's fractions."""
+    if isinstance(value, list):
+        return [told(each) for each in value]
+    value = Fraction(value)
+    return (value.numerator, value.denominator)
+
+
+def meant(value):
+    """The program's fractions, or a list of them, as Fractions."""
+    if isinstance(value, list):
+        return [meant(each) for each in value]
+    return Fraction(*value)
+
+
+def whole(*numbers):
+    """Whole numbers as a list of the program's fractions."""
+    return [(number, 1) for number in numbers]
+
+
+def some_floors(chance, most=8):
+    return [chance.randint(1, 9) for _ in range(chance.randint(1, most))]
+
+
+def some_amount(chance):
+    kind = chance.randrange(4)
+    if kind == 0:
+        return Fraction(0)
+    if kind == 1:
+        return Fraction(chance.randint(0, 12))
+    if kind == 2:
+        return Fraction(chance.randint(1, 60), chance.randint(1, 60))
+    return Fraction(chance.randint(1, 10 ** 12 - 1), chance.randint(1, 60))
+
+
+def some_water(chance, floors):
+    return [told(some_amount(chance)) for _ in floors]
+
+
+def some_bolted(chance, floors):
+    flaps = [flap for flap in range(1, len(floors)) if chance.random() < 0.3]
+    chance.shuffle(flaps)
+    return flaps
+
+
+def some_steps(chance, floors, most=5):
+    return [(some_bolted(chance, floors), some_water(chance, floors)) for _ in range(chance.randint(0, most))]
+
+
+def many_rows(many, seed=1):
+    """Tuples (floors, water, bolted); rows of every length, and every choice of bolts on short ones."""
+    chance = Random(seed)
+    rows = []
+    for _ in range(many):
+        floors = some_floors(chance)
+        rows.append((floors, some_water(chance, floors), some_bolted(chance, floors)))
+    for size in range(1, 5):
+        for count in range(size):
+            for bolted in combinations(range(1, size), count):
+                floors = [chance.randint(1, 9) for _ in range(size)]
+                rows.append((floors, some_water(chance, floors), list(bolted)))
+    return rows
+
+
+def many_histories(many, seed=2):
+    """Tuples (floors, water at first, steps)."""
+    chance = Random(seed)
+    found = []
+    for _ in range(many):
+        floors = some_floors(chance)
+        found.append((floors, some_water(chance, floors), some_steps(chance, floors)))
+    return found
+
+
+def played(floors, water, steps):
+    history = History(floors, water)
+    for bolted, rain in steps:
+        history.step(bolted, rain)
+    return history
+
+
+def all_left(history):
+    return [meant(history.left(k)) for k in range(len(history.floors()) + 1)]
+
+
+def sums(numbers):
+    """0, the first, the first two together, and so on to all."""
+    found = [Fraction(0)]
+    for number in numbers:
+        found.append(found[-1] + number)
+    return found
+
+
+def stretch_ends(floors, bolted):
+    """Tuples (first place, last place) of the stretches, by the numbers of the places."""
+    cuts = [0, *sorted(bolted), len(floors)]
+    return list(zip(cuts, cuts[1:]))
+
+
+def greatest_heaped(floors, water, bolted):
+    """The greatest heaped row that [6] tells of: at each place the lowest of all chords of its stretch over it.
+
+    A row that never bends downwards is nowhere above its chords, so nowhere above the chords of a row that it is
+    not above; and the lowest of these chords never bends downwards itself.
+    """
+    at = sums(floors)
+    heap = sums([meant(amount) for amount in water])
+    found = list(heap)
+    for start, end in stretch_ends(floors, bolted):
+        for k in range(start, end + 1):
+            for i in range(start, k + 1):
+                for j in range(max(k, i + 1), end + 1):
+                    chord = heap[i] + (heap[j] - heap[i]) * (at[k] - at[i]) / (at[j] - at[i])
+                    found[k] = min(found[k], chord)
+    return found
+
+
+def greatest_settled(floors, water, bolted):
+    heap = greatest_heaped(floors, water, bolted)
+    return [told(more - less) for less, more in zip(heap, heap[1:])]

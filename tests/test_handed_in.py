@@ -1,0 +1,151 @@
+"""[2]: nothing handed in is changed or kept, what is told is the asker's own, and the kinds of values told."""
+
+import copy
+import unittest
+from math import gcd
+
+from flapwater.errors import FlapError
+from flapwater.histories import History
+from flapwater.tanks import heaped, places, settled
+
+from tests.made import many_histories, many_rows, played, whole
+
+
+def spoil(value):
+    """Change every list in the value, however deep."""
+    for each in value:
+        if isinstance(each, (list, tuple)):
+            spoil(each)
+    if isinstance(value, list):
+        value.append("spoilt")
+        value[0] = "spoilt"
+
+
+def history():
+    return played([2, 1, 3], whole(4, 1, 0), [([2, 1], whole(1, 0, 2)), ([], whole(0, 3, 0))])
+
+
+ASKED = [
+    lambda asked: asked.floors(),
+    lambda asked: asked.steps(),
+    lambda asked: asked.water(),
+    lambda asked: asked.water(0),
+    lambda asked: asked.water(1),
+    lambda asked: asked.water(2),
+]
+
+
+class HandedIn(unittest.TestCase):
+    def test_functions_change_nothing(self):
+        for floors, water, bolted in many_rows(60, seed=11):
+            handed = (floors, water, bolted)
+            before = copy.deepcopy(handed)
+            places(floors)
+            heaped(floors, water)
+            settled(floors, water, bolted)
+            History(floors, water).step(bolted, water)
+            self.assertEqual(handed, before)
+
+    def test_refusals_change_nothing(self):
+        floors, water, bolted = [1, 1, 1], whole(1, 2, 3), [2, 1, 2]
+        self.assertRaises(FlapError, settled, floors, water, bolted)
+        self.assertRaises(FlapError, History(floors, water).step, bolted, water)
+        self.assertEqual((floors, water, bolted), ([1, 1, 1], whole(1, 2, 3), [2, 1, 2]))
+
+    def test_nothing_is_kept(self):
+        floors, water, bolted, rain = [2, 1, 3], whole(4, 1, 0), [2, 1], whole(1, 0, 2)
+        kept = History(floors, water)
+        kept.step(bolted, rain)
+        kept.step([], whole(0, 3, 0))
+        for handed in (floors, water, bolted, rain):
+            spoil(handed)
+        self.assertEqual(kept, history())
+        for asked in ASKED:
+            self.assertEqual(asked(kept), asked(history()))
+        self.assertEqual(kept.left(2), history().left(2))
+
+    def test_one_list_may_be_handed_in_for_several(self):
+        amounts = whole(1, 1)
+        kept = History([1, 1], amounts)
+        kept.step([], amounts)
+        self.assertEqual(amounts, whole(1, 1))
+        self.assertEqual(kept.water(), whole(2, 2))
+        self.assertEqual(kept.water(0), whole(1, 1))
+
+
+class Told(unittest.TestCase):
+    def test_histories_tell_new_lists(self):
+        for asked in ASKED:
+            kept = history()
+            spoil(asked(kept))
+            self.assertEqual(kept, history())
+            for again in ASKED:
+                self.assertEqual(again(kept), again(history()))
+            kept.step([1], whole(1, 1, 1))
+            kept.undo()
+            self.assertEqual(kept, history())
+
+    def test_told_lists_stay_what_they_were(self):
+        kept = history()
+        told_ahead = [asked(kept) for asked in ASKED]
+        before = copy.deepcopy(told_ahead)
+        kept.step([1], whole(9, 9, 9))
+        kept.undo()
+        kept.undo()
+        kept.undo()
+        self.assertEqual(told_ahead, before)
+
+    def test_an_undone_history_tells_new_lists_too(self):
+        kept = history()
+        kept.undo()
+        spoil(kept.water())
+        spoil(kept.steps())
+        kept.step([], whole(0, 3, 0))
+        self.assertEqual(kept, history())
+        self.assertEqual(kept.water(), history().water())
+
+    def test_functions_tell_new_lists(self):
+        floors, water = [2, 1, 3], whole(1, 2, 3)
+        for asked in (lambda: places(floors), lambda: heaped(floors, water), lambda: settled(floors, water),
+                      lambda: settled(floors, water, [1, 2])):
+            before = copy.deepcopy(asked())
+            spoil(asked())
+            self.assertEqual(asked(), before)
+            self.assertEqual((floors, water), ([2, 1, 3], whole(1, 2, 3)))
+
+    def test_empty_tanks_at_first_are_new_each_time(self):
+        spoil(History([1, 1]).water())
+        self.assertEqual(History([1, 1]).water(), whole(0, 0))
+
+    def test_asked_again_it_is_the_same(self):
+        for floors, water, steps in many_histories(20, seed=12):
+            self.assertEqual(played(floors, water, steps).water(), played(floors, water, steps).water())
+
+
+class Kinds(unittest.TestCase):
+    def check(self, amounts):
+        for amount in amounts:
+            self.assertIs(type(amount), tuple)
+            self.assertEqual([type(part) for part in amount], [int, int])
+            self.assertGreaterEqual(amount[1], 1)
+            self.assertEqual(gcd(*amount), 1)
+            self.assertGreaterEqual(amount[0], 0)
+
+    def test_fractions_in_lowest_terms(self):
+        for floors, water, bolted in many_rows(100, seed=13):
+            self.check(heaped(floors, water))
+            self.check(settled(floors, water, bolted))
+        for floors, water, steps in many_histories(60, seed=14):
+            kept = played(floors, water, steps)
+            self.check([kept.left(k) for k in range(len(floors) + 1)])
+            for number in range(len(steps) + 1):
+                self.check(kept.water(number))
+
+    def test_nought_is_nought_by_one(self):
+        self.assertEqual(settled([7, 9], whole(0, 0)), [(0, 1), (0, 1)])
+        self.assertEqual(History([7, 9]).left(0), (0, 1))
+        self.assertEqual(History([7, 9], [(0, 1), (5, 6)]).left(1), (0, 1))
+
+
+if __name__ == "__main__":
+    unittest.main()

@@ -1,0 +1,64 @@
+"""The names, arguments and places of definition that the interface lists."""
+
+import inspect
+import unittest
+from pathlib import Path
+
+from flapwater import histories, tanks
+from flapwater.histories import History
+from flapwater.tanks import heaped, places, settled
+
+from tests.made import whole
+
+REQUIRED = inspect.Parameter.empty
+
+
+def arguments(function):
+    return [(each.name, each.default) for each in inspect.signature(function).parameters.values()]
+
+
+class Interface(unittest.TestCase):
+    def test_functions_have_the_told_arguments(self):
+        self.assertEqual(arguments(places), [("floors", REQUIRED)])
+        self.assertEqual(arguments(heaped), [("floors", REQUIRED), ("water", REQUIRED)])
+        self.assertEqual(arguments(settled), [("floors", REQUIRED), ("water", REQUIRED), ("bolted", ())])
+
+    def test_history_has_the_told_arguments(self):
+        self.assertEqual(arguments(History), [("floors", REQUIRED), ("water", None)])
+        self.assertEqual(arguments(History([1]).step), [("bolted", REQUIRED), ("rain", REQUIRED)])
+        self.assertEqual(arguments(History([1]).undo), [])
+        self.assertEqual(arguments(History([1]).steps), [])
+        self.assertEqual(arguments(History([1]).floors), [])
+        self.assertEqual(arguments(History([1]).water), [("number", None)])
+        self.assertEqual(arguments(History([1]).left), [("k", REQUIRED)])
+
+    def test_each_is_defined_in_its_file(self):
+        for function in (places, heaped, settled):
+            self.assertEqual(function.__module__, tanks.__name__)
+        self.assertEqual(History.__module__, histories.__name__)
+
+    def test_methods_stand_in_the_class_itself(self):
+        for name in ("step", "undo", "steps", "floors", "water", "left", "__eq__"):
+            self.assertIn(name, vars(History))
+
+    def test_the_told_names_work_as_the_places_do(self):
+        self.assertEqual(places(floors=[2, 1]), places([2, 1]))
+        self.assertEqual(heaped(water=whole(4, 1), floors=[2, 1]), heaped([2, 1], whole(4, 1)))
+        self.assertEqual(settled(bolted=[1], water=whole(4, 1), floors=[2, 1]), settled([2, 1], whole(4, 1), [1]))
+        named = History(water=whole(4, 1), floors=[2, 1])
+        named.step(rain=whole(1, 0), bolted=[1])
+        placed = History([2, 1], whole(4, 1))
+        placed.step([1], whole(1, 0))
+        self.assertEqual(named, placed)
+        self.assertEqual(named.water(number=0), placed.water(0))
+        self.assertEqual(named.left(k=1), placed.left(1))
+
+    def test_the_package_is_plain_files(self):
+        folder = Path(tanks.__file__).parent
+        found = sorted(each.name for each in folder.iterdir() if each.name != "__pycache__")
+        self.assertIn("__init__.py", found)
+        self.assertTrue(all(name.endswith(".py") and not name.startswith("test") for name in found))
+
+
+if __name__ == "__main__":
+    unittest.main()
