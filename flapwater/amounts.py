@@ -1,6 +1,6 @@
 """Fractions as tuples (top, bottom), in lowest terms, the bottom from 1 on."""
 
-from math import gcd
+from math import gcd, lcm
 
 NOUGHT = (0, 1)
 
@@ -16,6 +16,11 @@ def plus(one, other):
     return lowest(one[0] * other[1] + other[0] * one[1], one[1] * other[1])
 
 
+def minus(one, other):
+    """What the one fraction is more than the other, below 0 where it is less."""
+    return plus(one, (-other[0], other[1]))
+
+
 def share(amount, part, whole):
     """As much of the amount as the part, a whole number, is of the whole."""
     return lowest(amount[0] * part, amount[1] * whole)
@@ -24,3 +29,19 @@ def share(amount, part, whole):
 def above(one, other):
     """Whether the one fraction is more than the other."""
     return one[0] * other[1] > other[0] * one[1]
+
+
+def sums(amounts):
+    """Nought, the first amount, the first two together, and so on to all."""
+    told = [NOUGHT]
+    for amount in amounts:
+        told.append(plus(told[-1], amount))
+    return told
+
+
+def one_bottom(fractions):
+    """The tops of the fractions over the least bottom that all of them can have, and that bottom."""
+    bottom = 1
+    for fraction in fractions:
+        bottom = lcm(bottom, fraction[1])
+    return [top * (bottom // own) for top, own in fractions], bottom

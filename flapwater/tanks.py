@@ -1,6 +1,6 @@
 """A row of tanks: its places, its heaped water, and how water settles in it."""
 
-from flapwater.amounts import NOUGHT, above, plus, share
+from flapwater.amounts import NOUGHT, above, plus, share, sums
 from flapwater.errors import NoFlap, NoFloors, NoWater
 
 
@@ -42,10 +42,12 @@ def heaped(floors, water):
     """How much water there is in the first k tanks, for k from 0 to all."""
     check_floors(floors)
     check_water(floors, water)
-    told = [NOUGHT]
-    for amount in water:
-        told.append(plus(told[-1], amount))
-    return told
+    return sums(water)
+
+
+def rained(floors, row, rain):
+    """The row of heights, one for each place, with the heaped rain upon it."""
+    return [plus(height, more) for height, more in zip(row, heaped(floors, rain))]
 
 
 def stretches(floors, bolted):
@@ -76,14 +78,19 @@ def pooled(floors, water):
     return pools
 
 
-def settled(floors, water, bolted=()):
-    """The water at the one rest to which it comes while the bolted flaps let none by."""
-    check_floors(floors)
-    check_water(floors, water)
-    check_bolted(floors, bolted)
+def at_rest(floors, water, bolted):
+    """The water settled, where nothing needs to be refused; the amounts may be below 0."""
     rest = []
     for start, end in stretches(floors, bolted):
         for level_floors, amount in pooled(floors[start:end], water[start:end]):
             whole = sum(level_floors)
             rest.extend([share(amount, floor, whole) for floor in level_floors])
     return rest
+
+
+def settled(floors, water, bolted=()):
+    """The water at the one rest to which it comes while the bolted flaps let none by."""
+    check_floors(floors)
+    check_water(floors, water)
+    check_bolted(floors, bolted)
+    return at_rest(floors, water, bolted)

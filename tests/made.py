@@ -88,6 +88,54 @@ def played(floors, water, steps):
     return history
 
 
+BOLTS = ("none", "some", "all")
+
+
+def bolts_of(chance, floors, kind):
+    if kind == "none":
+        return []
+    if kind == "all":
+        return list(range(len(floors) - 1, 0, -1))
+    return some_bolted(chance, floors)
+
+
+def tied_water(chance, floors):
+    """Water that often stands alike high, and often not at all."""
+    return [told(floor * chance.choice((0, 0, 1, 1, 2))) for floor in floors]
+
+
+def every_size(seed, most_tanks=8, most_steps=10):
+    """Histories of each number of tanks and steps, without bolts, with some and with all; many with ties."""
+    chance = Random(seed)
+    found = []
+    for tanks in range(1, most_tanks + 1):
+        for many in range(most_steps + 1):
+            for kind in BOLTS:
+                water = chance.choice((some_water, tied_water))
+                floors = [chance.randint(1, 9) for _ in range(tanks)]
+                steps = [(bolts_of(chance, floors, kind), water(chance, floors)) for _ in range(many)]
+                found.append(played(floors, water(chance, floors), steps))
+    return found
+
+
+def small_histories(seed, many, tanks=3, steps=2):
+    """Short histories, with ties and with bolts."""
+    chance = Random(seed)
+    found = []
+    for _ in range(many):
+        water = chance.choice((some_water, tied_water, tied_water))
+        floors = [chance.randint(1, 3) for _ in range(chance.randint(2, tanks))]
+        played_steps = [(some_bolted(chance, floors), water(chance, floors)) for _ in range(chance.randint(0, steps))]
+        found.append(played(floors, water(chance, floors), played_steps))
+    return found
+
+
+def heaps_of(history):
+    """The heaped water at first, and the list of the heaped rains of the steps, as Fractions."""
+    rains = [sums(meant(rain)) for _, rain in history.steps()]
+    return sums(meant(history.water(0))), rains
+
+
 def all_left(history):
     return [meant(history.left(k)) for k in range(len(history.floors()) + 1)]
 
@@ -106,14 +154,13 @@ def stretch_ends(floors, bolted):
     return list(zip(cuts, cuts[1:]))
 
 
-def greatest_heaped(floors, water, bolted):
-    """The greatest heaped row that [6] tells of: at each place the lowest of all chords of its stretch over it.
+def lowest_chords(floors, heap, bolted):
+    """At each place the lowest of all chords of its stretch over it.
 
     A row that never bends downwards is nowhere above its chords, so nowhere above the chords of a row that it is
     not above; and the lowest of these chords never bends downwards itself.
     """
     at = sums(floors)
-    heap = sums([meant(amount) for amount in water])
     found = list(heap)
     for start, end in stretch_ends(floors, bolted):
         for k in range(start, end + 1):
@@ -122,6 +169,11 @@ def greatest_heaped(floors, water, bolted):
                     chord = heap[i] + (heap[j] - heap[i]) * (at[k] - at[i]) / (at[j] - at[i])
                     found[k] = min(found[k], chord)
     return found
+
+
+def greatest_heaped(floors, water, bolted):
+    """The greatest heaped row that [6] tells of."""
+    return lowest_chords(floors, sums([meant(amount) for amount in water]), bolted)
 
 
 def greatest_settled(floors, water, bolted):

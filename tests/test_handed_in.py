@@ -4,11 +4,15 @@ import copy
 import unittest
 from math import gcd
 
+from flapwater.drops import drop_less, drop_more
 from flapwater.errors import FlapError
 from flapwater.histories import History
+from flapwater.papers import best_rows, shows
 from flapwater.tanks import heaped, places, settled
+from flapwater.wanderers import best_table, price
 
-from tests.made import many_histories, many_rows, played, whole
+from tests.lots import staying
+from tests.made import every_size, many_histories, many_rows, played, whole
 
 
 def spoil(value):
@@ -34,6 +38,14 @@ ASKED = [
     lambda asked: asked.water(2),
 ]
 
+TOLD_OF_HISTORIES = [
+    best_table,
+    best_rows,
+    lambda asked: drop_more(asked, 0, 1),
+    lambda asked: drop_more(asked, 1, 2),
+    lambda asked: drop_less(asked, 0, 3),
+]
+
 
 class HandedIn(unittest.TestCase):
     def test_functions_change_nothing(self):
@@ -45,6 +57,42 @@ class HandedIn(unittest.TestCase):
             settled(floors, water, bolted)
             History(floors, water).step(bolted, water)
             self.assertEqual(handed, before)
+
+    def test_wanderers_papers_and_drops_change_nothing(self):
+        for asked in every_size(15, most_tanks=4, most_steps=3):
+            table, rows = best_table(asked), best_rows(asked)
+            before = copy.deepcopy((asked, table, rows))
+            waters = [asked.water(number) for number in range(len(asked.steps()) + 1)]
+            for k in range(len(asked.floors()) + 1):
+                price(asked, table, k)
+            shows(asked, rows)
+            for step in range(len(asked.steps())):
+                drop_more(asked, step, 1)
+            self.assertEqual((asked, table, rows), before)
+            self.assertEqual([asked.water(number) for number in range(len(waters))], waters)
+
+    def test_refused_tables_rows_and_drops_change_nothing(self):
+        asked, table, rows = history(), staying(history()), best_rows(history())
+        table[1][2], rows[2] = [(2, (1, 2))], rows[2][:2]
+        before = copy.deepcopy((asked, table, rows))
+        self.assertRaises(FlapError, price, asked, table, 1)
+        self.assertRaises(FlapError, price, asked, table[:1], 1)
+        self.assertRaises(FlapError, shows, asked, rows)
+        self.assertRaises(FlapError, drop_less, asked, 0, 2)
+        self.assertRaises(FlapError, drop_more, asked, 2, 1)
+        self.assertRaises(FlapError, drop_more, asked, 0, 4)
+        self.assertEqual((asked, table, rows), before)
+
+    def test_tables_and_rows_are_not_kept(self):
+        asked = history()
+        table, rows = staying(asked), best_rows(asked)
+        paid = price(asked, table, 1)
+        self.assertTrue(shows(asked, rows))
+        spoil(table)
+        spoil(rows)
+        self.assertEqual(price(asked, staying(asked), 1), paid)
+        self.assertTrue(shows(asked, best_rows(history())))
+        self.assertEqual(asked, history())
 
     def test_refusals_change_nothing(self):
         floors, water, bolted = [1, 1, 1], whole(1, 2, 3), [2, 1, 2]
@@ -112,6 +160,34 @@ class Told(unittest.TestCase):
             spoil(asked())
             self.assertEqual(asked(), before)
             self.assertEqual((floors, water), ([2, 1, 3], whole(1, 2, 3)))
+
+    def test_tables_rows_and_drops_are_new_lists(self):
+        for asked in TOLD_OF_HISTORIES:
+            kept = history()
+            before = copy.deepcopy(asked(kept))
+            spoil(asked(kept))
+            self.assertEqual(asked(kept), before)
+            self.assertEqual(kept, history())
+            for again in TOLD_OF_HISTORIES + ASKED:
+                self.assertEqual(again(kept), again(history()))
+
+    def test_no_list_stands_twice_in_what_is_told(self):
+        for asked in (best_table, best_rows):
+            for kept in every_size(16, most_tanks=3, most_steps=3):
+                told = asked(kept)
+                lists = [told, *told] + [lot for lots in told for lot in lots if isinstance(lot, list)]
+                self.assertEqual(len({id(each) for each in lists}), len(lists))
+
+    def test_told_tables_rows_and_drops_stay_what_they_were(self):
+        kept = history()
+        told_ahead = [asked(kept) for asked in TOLD_OF_HISTORIES]
+        before = copy.deepcopy(told_ahead)
+        kept.step([1], whole(9, 9, 9))
+        for asked in TOLD_OF_HISTORIES:
+            asked(kept)
+        kept.undo()
+        self.assertEqual(told_ahead, before)
+        self.assertEqual([asked(kept) for asked in TOLD_OF_HISTORIES], before)
 
     def test_empty_tanks_at_first_are_new_each_time(self):
         spoil(History([1, 1]).water())

@@ -3,10 +3,11 @@
 import unittest
 from random import Random
 
-from flapwater.errors import FlapError, NoFlap, NoFloors, NoStep, NoWater
+from flapwater.errors import NoFlap, NoFloors, NoStep, NoWater
 from flapwater.histories import History
 
 from tests.made import greatest_settled, many_histories, meant, played, sums, told, whole
+from tests.refusing import Refusing
 
 
 def seen(history):
@@ -19,14 +20,6 @@ def seen(history):
         [history.water(number) for number in range(len(steps) + 1)],
         [history.left(k) for k in range(len(history.floors()) + 1)],
     )
-
-
-class Refusing(unittest.TestCase):
-    def refused(self, error, what, asked, *told_with):
-        with self.assertRaises(FlapError) as caught:
-            asked(*told_with)
-        self.assertIs(type(caught.exception), error)
-        self.assertEqual(caught.exception.what, what)
 
 
 class AtFirst(Refusing):

@@ -4,11 +4,14 @@ import inspect
 import unittest
 from pathlib import Path
 
-from flapwater import histories, tanks
+from flapwater import drops, histories, papers, tanks, wanderers
+from flapwater.drops import drop_less, drop_more
 from flapwater.histories import History
+from flapwater.papers import best_rows, shows
 from flapwater.tanks import heaped, places, settled
+from flapwater.wanderers import best_table, price
 
-from tests.made import whole
+from tests.made import played, whole
 
 REQUIRED = inspect.Parameter.empty
 
@@ -23,6 +26,13 @@ class Interface(unittest.TestCase):
         self.assertEqual(arguments(heaped), [("floors", REQUIRED), ("water", REQUIRED)])
         self.assertEqual(arguments(settled), [("floors", REQUIRED), ("water", REQUIRED), ("bolted", ())])
 
+        self.assertEqual(arguments(price), [("history", REQUIRED), ("table", REQUIRED), ("k", REQUIRED)])
+        self.assertEqual(arguments(best_table), [("history", REQUIRED)])
+        self.assertEqual(arguments(shows), [("history", REQUIRED), ("rows", REQUIRED)])
+        self.assertEqual(arguments(best_rows), [("history", REQUIRED)])
+        for function in (drop_more, drop_less):
+            self.assertEqual(arguments(function), [("history", REQUIRED), ("step", REQUIRED), ("tank", REQUIRED)])
+
     def test_history_has_the_told_arguments(self):
         self.assertEqual(arguments(History), [("floors", REQUIRED), ("water", None)])
         self.assertEqual(arguments(History([1]).step), [("bolted", REQUIRED), ("rain", REQUIRED)])
@@ -33,8 +43,10 @@ class Interface(unittest.TestCase):
         self.assertEqual(arguments(History([1]).left), [("k", REQUIRED)])
 
     def test_each_is_defined_in_its_file(self):
-        for function in (places, heaped, settled):
-            self.assertEqual(function.__module__, tanks.__name__)
+        for module, functions in ((tanks, (places, heaped, settled)), (wanderers, (price, best_table)),
+                                  (papers, (shows, best_rows)), (drops, (drop_more, drop_less))):
+            for function in functions:
+                self.assertEqual(function.__module__, module.__name__)
         self.assertEqual(History.__module__, histories.__name__)
 
     def test_methods_stand_in_the_class_itself(self):
@@ -52,6 +64,16 @@ class Interface(unittest.TestCase):
         self.assertEqual(named, placed)
         self.assertEqual(named.water(number=0), placed.water(0))
         self.assertEqual(named.left(k=1), placed.left(1))
+
+    def test_the_told_names_work_for_wanderers_papers_and_drops(self):
+        history = played([2, 1], whole(4, 1), [([], whole(0, 3)), ([1], whole(1, 0))])
+        table, rows = best_table(history), best_rows(history)
+        self.assertEqual(best_table(history=history), table)
+        self.assertEqual(price(k=1, table=table, history=history), price(history, table, 1))
+        self.assertEqual(best_rows(history=history), rows)
+        self.assertIs(shows(rows=rows, history=history), True)
+        self.assertEqual(drop_more(tank=2, step=0, history=history), drop_more(history, 0, 2))
+        self.assertEqual(drop_less(tank=2, step=0, history=history), drop_less(history, 0, 2))
 
     def test_the_package_is_plain_files(self):
         folder = Path(tanks.__file__).parent

@@ -3,10 +3,14 @@
 import unittest
 from random import Random
 
+from flapwater.drops import drop_less, drop_more
 from flapwater.histories import History
+from flapwater.papers import best_rows, shows
 from flapwater.tanks import heaped, places, settled
+from flapwater.wanderers import best_table, price
 
-from tests.made import greatest_settled, meant, sums, told, whole
+from tests.lots import reckoned, some_table
+from tests.made import all_left, greatest_settled, meant, played, sums, told, whole
 
 
 def large_water(chance, tanks, top=10 ** 12 - 1, bottom=60):
@@ -30,6 +34,26 @@ def check_steps(case, chance, tanks, steps, top, bottom):
     case.assertEqual(history.steps(), [])
 
 
+def large_history(chance, tanks, steps, top=10 ** 12 - 1, bottom=60):
+    floors = [chance.randint(1, 9) for _ in range(tanks)]
+    played_steps = [([flap for flap in range(1, tanks) if chance.random() < 0.2],
+                     large_water(chance, tanks, top, bottom)) for _ in range(steps)]
+    return played(floors, large_water(chance, tanks, top, bottom), played_steps)
+
+
+def check_both_sides(case, history):
+    """A table and rows that meet, and drops of the shape that is told."""
+    table, rows, left = best_table(history), best_rows(history), all_left(history)
+    case.assertEqual([meant(price(history, table, k)) for k in range(len(left))], left)
+    case.assertIs(shows(history, rows), True)
+    case.assertEqual(meant(rows[-1]), left)
+    for asked in (drop_more, drop_less):
+        for step in (0, len(rows) - 2):
+            shares = meant(asked(history, step, len(left) // 2))
+            case.assertEqual((shares[0], shares[-1]), (0, 1))
+            case.assertEqual(shares, sorted(shares))
+
+
 class Sizes(unittest.TestCase):
     def test_up_to_the_told_sizes(self):
         for seed in range(10):
@@ -44,6 +68,32 @@ class Sizes(unittest.TestCase):
         water = [told(meant((most, bottom))), told(meant((1, bottom))), (0, 1)]
         self.assertEqual(settled([1, 2, 3], water), greatest_settled([1, 2, 3], water, []))
         self.assertEqual(heaped([1, 2, 3], water), told(sums(meant(water))))
+
+    def test_wanderers_papers_and_drops_up_to_the_told_sizes(self):
+        for seed in range(3):
+            check_both_sides(self, large_history(Random(seed), 8, 10))
+
+    def test_wanderers_papers_and_drops_somewhat_beyond(self):
+        check_both_sides(self, large_history(Random(5), 12, 15, 10 ** 15, 100))
+        check_both_sides(self, large_history(Random(6), 30, 3))
+
+    def test_wanderers_papers_and_drops_of_four_hundred_figures(self):
+        check_both_sides(self, large_history(Random(7), 4, 3, 10 ** 400 - 1, 10 ** 400 - 1))
+
+    def test_the_largest_table_with_chances_of_four_hundred_figures(self):
+        chance = Random(8)
+        history = large_history(chance, 8, 10)
+        table = some_table(chance, history, 400)
+        self.assertGreater(len({bottom for lots in table for lot in lots for _, (_, bottom) in lot}), 40)
+        for k, least in enumerate(all_left(history)):
+            self.assertGreaterEqual(meant(price(history, table, k)), least)
+
+    def test_tables_with_chances_of_four_hundred_figures_are_reckoned_alike(self):
+        chance = Random(9)
+        history = large_history(chance, 5, 4)
+        table = some_table(chance, history, 400)
+        for k in range(6):
+            self.assertEqual(meant(price(history, table, k)), reckoned(history, table, k))
 
     def test_long_rows_with_large_floors(self):
         self.assertEqual(places(list(range(1, 41)))[-1], 820)
