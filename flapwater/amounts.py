@@ -13,7 +13,12 @@ def lowest(top, bottom):
 
 def plus(one, other):
     """Both fractions together."""
-    return lowest(one[0] * other[1] + other[0] * one[1], one[1] * other[1])
+    # Only what both bottoms share can still divide the sum. To look for that alone keeps long histories, whose
+    # bottoms may come to many thousand figures, from taking minutes.
+    common = gcd(one[1], other[1])
+    rest = one[1] // common
+    top, shared = lowest(one[0] * (other[1] // common) + other[0] * rest, common)
+    return (top, shared * rest * (other[1] // common))
 
 
 def minus(one, other):
@@ -22,8 +27,12 @@ def minus(one, other):
 
 
 def share(amount, part, whole):
-    """As much of the amount as the part, a whole number, is of the whole."""
-    return lowest(amount[0] * part, amount[1] * whole)
+    """As much of the amount as the part, a whole number above 0, is of the whole."""
+    # Put in lowest terms crosswise, for the same reason.
+    part, whole = lowest(part, whole)
+    top, whole = lowest(amount[0], whole)
+    part, bottom = lowest(part, amount[1])
+    return (top * part, bottom * whole)
 
 
 def above(one, other):

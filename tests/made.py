@@ -6,6 +6,9 @@ from random import Random
 
 from flapwater.histories import History
 
+# Small enough: far below any difference of heights in histories of the sizes that are asked here.
+SMALL = Fraction(1, 10 ** 400)
+
 
 def told(value):
     """A Fraction, a whole number or a list of these as the program's fractions."""
@@ -179,3 +182,51 @@ def greatest_heaped(floors, water, bolted):
 def greatest_settled(floors, water, bolted):
     heap = greatest_heaped(floors, water, bolted)
     return [told(more - less) for less, more in zip(heap, heap[1:])]
+
+
+def let_by(chance, floors, water, bolted, many):
+    """The water after free flaps, by chance, let by all or a part of what would make their two tanks level."""
+    now = meant(water)
+    for _ in range(many):
+        free = [k for k in range(1, len(floors)) if k not in bolted
+                and now[k - 1] * floors[k] > now[k] * floors[k - 1]]
+        if not free:
+            break
+        k = chance.choice(free)
+        left, right = floors[k - 1], floors[k]
+        most = (now[k - 1] * right - now[k] * left) / (left + right)
+        moved = most * Fraction(chance.randint(1, 4), 4)
+        now[k - 1] -= moved
+        now[k] += moved
+    return told(now)
+
+
+def together(one, other):
+    """Two rows of amounts put together, amount by amount."""
+    return told([a + b for a, b in zip(meant(one), meant(other))])
+
+
+def times(amounts, many):
+    return told([amount * many for amount in meant(amounts)])
+
+
+def parted(amounts, tank, part, floor):
+    """The amounts where a tank of that floor is parted in two, the left of them with that part of the floor."""
+    meant_amounts = meant(amounts)
+    whole_amount = meant_amounts[tank]
+    halves = [whole_amount * part / floor, whole_amount * (floor - part) / floor]
+    return told(meant_amounts[:tank] + halves + meant_amounts[tank + 1:])
+
+
+def with_drop(history, step, tank, drop):
+    """The history with so much more rain in that tank in that step."""
+    steps = history.steps()
+    bolted, rain = steps[step]
+    rain[tank - 1] = told(meant(rain[tank - 1]) + drop)
+    return played(history.floors(), history.water(0), steps)
+
+
+def shares_left(history, step, tank, drop):
+    """The share of the drop that is left of each place now, by the water with it and without it."""
+    ahead, behind = all_left(history), all_left(with_drop(history, step, tank, drop))
+    return [told((more - less) / drop) for less, more in zip(ahead, behind)]

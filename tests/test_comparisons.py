@@ -4,7 +4,8 @@ import unittest
 from fractions import Fraction
 from random import Random
 
-from tests.made import all_left, many_histories, meant, played, some_amount, some_steps, some_water, told
+from tests.made import (
+    all_left, many_histories, meant, parted, played, some_amount, some_steps, some_water, times, together, told)
 
 
 def with_more(chance, amounts):
@@ -12,23 +13,6 @@ def with_more(chance, amounts):
     more = meant(amounts)
     more[chance.randrange(len(more))] += some_amount(chance) + Fraction(1, 7)
     return told(more)
-
-
-def together(one, other):
-    """Two rows of amounts put together, amount by amount."""
-    return told([a + b for a, b in zip(meant(one), meant(other))])
-
-
-def times(amounts, many):
-    return told([amount * many for amount in meant(amounts)])
-
-
-def parted(amounts, tank, part, floor):
-    """The amounts where a tank of that floor is parted in two, the left of them with that part of the floor."""
-    meant_amounts = meant(amounts)
-    whole_amount = meant_amounts[tank]
-    halves = [whole_amount * part / floor, whole_amount * (floor - part) / floor]
-    return told(meant_amounts[:tank] + halves + meant_amounts[tank + 1:])
 
 
 class NoLess(unittest.TestCase):

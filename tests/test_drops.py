@@ -1,7 +1,6 @@
 """[12]: where a drop more, or a drop less, would end."""
 
 import unittest
-from fractions import Fraction
 from math import gcd
 from random import Random
 
@@ -11,25 +10,9 @@ from flapwater.histories import History
 from flapwater.wanderers import best_table
 
 from tests.lots import chance_beyond, reckoned, two_place_tables
-from tests.made import all_left, every_size, many_histories, meant, played, small_histories, told, whole
+from tests.made import (
+    SMALL, all_left, every_size, many_histories, meant, played, shares_left, small_histories, whole)
 from tests.refusing import Refusing
-
-# Small enough: far below any difference of heights in histories of the sizes that are asked here.
-SMALL = Fraction(1, 10 ** 400)
-
-
-def with_drop(history, step, tank, drop):
-    """The history with so much more rain in that tank in that step."""
-    steps = history.steps()
-    bolted, rain = steps[step]
-    rain[tank - 1] = told(meant(rain[tank - 1]) + drop)
-    return played(history.floors(), history.water(0), steps)
-
-
-def shares_left(history, step, tank, drop):
-    """The share of the drop that is left of each place now, by the water with it and without it."""
-    ahead, behind = all_left(history), all_left(with_drop(history, step, tank, drop))
-    return [told((more - less) / drop) for less, more in zip(ahead, behind)]
 
 
 def drops(history):

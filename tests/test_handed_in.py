@@ -3,16 +3,21 @@
 import copy
 import unittest
 from math import gcd
+from random import Random
 
 from flapwater.drops import drop_less, drop_more
 from flapwater.errors import FlapError
 from flapwater.histories import History
+from flapwater.orders import behind, bounds
 from flapwater.papers import best_rows, shows
+from flapwater.readings import read_fraction, read_history, read_water
 from flapwater.tanks import heaped, places, settled
+from flapwater.texts import show_fraction, show_history, show_water
 from flapwater.wanderers import best_table, price
 
 from tests.lots import staying
 from tests.made import every_size, many_histories, many_rows, played, whole
+from tests.rains import some_rains
 
 
 def spoil(value):
@@ -112,6 +117,32 @@ class HandedIn(unittest.TestCase):
             self.assertEqual(asked(kept), asked(history()))
         self.assertEqual(kept.left(2), history().left(2))
 
+    def test_orders_change_nothing(self):
+        chance = Random(17)
+        for floors, _, _ in many_rows(60, seed=17):
+            rains = some_rains(chance, len(floors), chance.randint(0, 6))
+            order = chance.sample(range(len(rains)), len(rains))
+            before = copy.deepcopy((floors, rains, order))
+            bounds(floors, rains)
+            behind(floors, rains, order)
+            self.assertEqual((floors, rains, order), before)
+
+    def test_refused_orders_change_nothing(self):
+        floors, rains, order = [1, 1], [(2, (1, 1)), (1, (1, 1)), (3, (1, 1))], [2, 0, 0]
+        self.assertRaises(FlapError, bounds, floors, rains)
+        self.assertRaises(FlapError, behind, floors, rains, order)
+        self.assertRaises(FlapError, behind, floors, rains[:2], order)
+        self.assertEqual((floors, rains, order), ([1, 1], [(2, (1, 1)), (1, (1, 1)), (3, (1, 1))], [2, 0, 0]))
+
+    def test_texts_change_nothing(self):
+        for asked in every_size(18, most_tanks=4, most_steps=3):
+            before, waters = copy.deepcopy(asked), [told(asked) for told in ASKED[:4]]
+            water = asked.water(0)
+            show_history(asked)
+            show_water(water)
+            self.assertEqual((asked, water), (before, asked.water(0)))
+            self.assertEqual([told(asked) for told in ASKED[:4]], waters)
+
     def test_one_list_may_be_handed_in_for_several(self):
         amounts = whole(1, 1)
         kept = History([1, 1], amounts)
@@ -178,6 +209,49 @@ class Told(unittest.TestCase):
                 lists = [told, *told] + [lot for lots in told for lot in lots if isinstance(lot, list)]
                 self.assertEqual(len({id(each) for each in lists}), len(lists))
 
+    def test_bounds_and_water_behind_are_new_lists(self):
+        for rains, order in (([], []), ([(2, (1, 1)), (1, (3, 1))], [1, 0])):
+            floors = [2, 1, 3]
+            asked = (lambda: bounds(floors, rains), lambda: behind(floors, rains, order))
+            before = copy.deepcopy([each() for each in asked])
+            for each in asked:
+                spoil(each())
+                self.assertEqual([again() for again in asked], before)
+            least, most = bounds(floors, rains)
+            self.assertIsNot(least, most)
+            spoil(least)
+            self.assertEqual((most, floors), (before[0][1], [2, 1, 3]))
+
+    def test_spoilt_rains_and_orders_change_nothing_told(self):
+        floors, rains, order = [2, 1, 3], [(2, (1, 1)), (1, (3, 1))], [1, 0]
+        told_ahead = (bounds(floors, rains), behind(floors, rains, order))
+        before = copy.deepcopy(told_ahead)
+        for handed in (floors, rains, order):
+            spoil(handed)
+        self.assertEqual(told_ahead, before)
+
+    def test_what_is_read_is_new_each_time(self):
+        text = show_history(history())
+        one, other = read_history(text), read_history(text)
+        self.assertIsNot(one, other)
+        one.step([1], whole(1, 1, 1))
+        for asked in ASKED:
+            spoil(asked(one))
+        self.assertEqual(other, history())
+        self.assertEqual(read_history(text), history())
+        for asked in ASKED:
+            self.assertEqual(asked(read_history(text)), asked(history()))
+        spoil(read_water("1 2"))
+        self.assertEqual(read_water("1 2"), whole(1, 2))
+        self.assertEqual(read_fraction("1/2"), (1, 2))
+
+    def test_told_texts_stay_what_they_were(self):
+        kept, water = history(), whole(1, 2)
+        ahead = (show_history(kept), show_water(water), show_fraction((1, 2)))
+        kept.undo()
+        spoil(water)
+        self.assertEqual(ahead, (show_history(history()), "1 2", "1/2"))
+
     def test_told_tables_rows_and_drops_stay_what_they_were(self):
         kept = history()
         told_ahead = [asked(kept) for asked in TOLD_OF_HISTORIES]
@@ -216,6 +290,23 @@ class Kinds(unittest.TestCase):
             self.check([kept.left(k) for k in range(len(floors) + 1)])
             for number in range(len(steps) + 1):
                 self.check(kept.water(number))
+
+    def test_bounds_and_water_behind_in_lowest_terms(self):
+        chance = Random(19)
+        for floors, _, _ in many_rows(100, seed=19):
+            rains = some_rains(chance, len(floors), chance.randint(0, 10))
+            for amounts in bounds(floors, rains):
+                self.check(amounts)
+            self.check(behind(floors, rains, list(range(len(rains)))))
+
+    def test_what_is_read_in_lowest_terms(self):
+        for kept in every_size(20)[::5]:
+            found = read_history(show_history(kept))
+            for number in range(len(kept.steps()) + 1):
+                self.check(found.water(number))
+            for _, rain in found.steps():
+                self.check(rain)
+            self.check(read_water(show_water(kept.water())))
 
     def test_nought_is_nought_by_one(self):
         self.assertEqual(settled([7, 9], whole(0, 0)), [(0, 1), (0, 1)])

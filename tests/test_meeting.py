@@ -8,19 +8,12 @@ from flapwater.papers import best_rows, shows
 from flapwater.wanderers import best_table, price
 
 from tests.lots import some_table
-from tests.made import all_left, every_size, many_histories, meant, played, small_histories, some_water, told
+from tests.made import (
+    all_left, every_size, many_histories, meant, played, small_histories, some_water, times, together)
 
 
 def prices(history, table):
     return [meant(price(history, table, k)) for k in range(len(history.floors()) + 1)]
-
-
-def times(amounts, many):
-    return told([amount * many for amount in meant(amounts)])
-
-
-def together(one, other):
-    return told([a + b for a, b in zip(meant(one), meant(other))])
 
 
 def with_other_water(chance, history):

@@ -8,28 +8,11 @@ from random import Random
 from flapwater.errors import NoFlap
 from flapwater.tanks import heaped, settled
 
-from tests.made import greatest_settled, many_rows, meant, some_water, stretch_ends, sums, told, whole
+from tests.made import greatest_settled, let_by, many_rows, meant, some_water, stretch_ends, sums, told, whole
 
 
 def heights(floors, water):
     return [amount / floor for floor, amount in zip(floors, meant(water))]
-
-
-def let_by(chance, floors, water, bolted, times):
-    """The water after free flaps, by chance, let by all or a part of what would make their two tanks level."""
-    now = meant(water)
-    for _ in range(times):
-        free = [k for k in range(1, len(floors)) if k not in bolted
-                and now[k - 1] * floors[k] > now[k] * floors[k - 1]]
-        if not free:
-            break
-        k = chance.choice(free)
-        left, right = floors[k - 1], floors[k]
-        most = (now[k - 1] * right - now[k] * left) / (left + right)
-        moved = most * Fraction(chance.randint(1, 4), 4)
-        now[k - 1] -= moved
-        now[k] += moved
-    return told(now)
 
 
 def rest_by_trickles(floors, water, bolted):

@@ -5,12 +5,16 @@ from random import Random
 
 from flapwater.drops import drop_less, drop_more
 from flapwater.histories import History
+from flapwater.orders import behind, bounds
 from flapwater.papers import best_rows, shows
+from flapwater.readings import read_fraction, read_history, read_water
 from flapwater.tanks import heaped, places, settled
+from flapwater.texts import show_fraction, show_history, show_water
 from flapwater.wanderers import best_table, price
 
 from tests.lots import reckoned, some_table
 from tests.made import all_left, greatest_settled, meant, played, sums, told, whole
+from tests.rains import at_once, each_alone, in_order
 
 
 def large_water(chance, tanks, top=10 ** 12 - 1, bottom=60):
@@ -54,6 +58,26 @@ def check_both_sides(case, history):
             case.assertEqual(shares, sorted(shares))
 
 
+def check_orders(case, chance, tanks, many, top=10 ** 12 - 1, bottom=60):
+    floors = [chance.randint(1, 9) for _ in range(tanks)]
+    rains = [(chance.randint(1, tanks), amount) for amount in large_water(chance, many, top, bottom)]
+    least, most = bounds(floors, rains)
+    case.assertEqual(meant(least), each_alone(floors, rains))
+    case.assertEqual(meant(most), sums(meant(greatest_settled(floors, at_once(floors, rains), []))))
+    order = chance.sample(range(many), many)
+    case.assertEqual(behind(floors, rains, order), in_order(floors, rains, order).water())
+
+
+def check_texts(case, history):
+    """The History and its water, first and now, written and read back."""
+    found = read_history(show_history(history))
+    case.assertEqual(found, history)
+    case.assertEqual(found.water(), history.water())
+    for water in (history.water(0), history.water()):
+        case.assertEqual(read_water(show_water(water)), water)
+        case.assertEqual([read_fraction(show_fraction(amount)) for amount in water], water)
+
+
 class Sizes(unittest.TestCase):
     def test_up_to_the_told_sizes(self):
         for seed in range(10):
@@ -94,6 +118,28 @@ class Sizes(unittest.TestCase):
         table = some_table(chance, history, 400)
         for k in range(6):
             self.assertEqual(meant(price(history, table, k)), reckoned(history, table, k))
+
+    def test_orders_up_to_the_told_sizes(self):
+        for seed in range(10):
+            check_orders(self, Random(seed), 8, 10)
+
+    def test_orders_somewhat_beyond(self):
+        check_orders(self, Random(10), 12, 20, 10 ** 15, 100)
+        check_orders(self, Random(11), 30, 40)
+        check_orders(self, Random(12), 4, 5, 10 ** 400 - 1, 10 ** 400 - 1)
+
+    def test_texts_up_to_the_told_sizes_and_somewhat_beyond(self):
+        for seed in range(5):
+            check_texts(self, large_history(Random(seed), 8, 10))
+        check_texts(self, large_history(Random(13), 12, 14, 10 ** 15, 100))
+        check_texts(self, large_history(Random(14), 40, 20, 1000, 2))
+
+    def test_texts_with_fractions_of_four_hundred_figures(self):
+        history = History([10 ** 400 - 1, 1], [told(meant((10 ** 400 - 1, 10 ** 399))), (0, 1)])
+        history.step([1], [(1, 10 ** 399), (10 ** 400 - 1, 7)])
+        found = read_history(show_history(history))
+        self.assertEqual(found, history)
+        self.assertEqual(found.water(), history.water())
 
     def test_long_rows_with_large_floors(self):
         self.assertEqual(places(list(range(1, 41)))[-1], 820)
